@@ -1,0 +1,1 @@
+"""Copper and holes of a board, held to rules."""
