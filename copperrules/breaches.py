@@ -32,6 +32,16 @@ def breaches_of(board, item):
     return sorted(breaches_of_pairs(board, item, others) + breaches_of_one(board, item))
 
 
+def has_breach(board, breach):
+    if breach[1] not in board.item_by_number:
+        return False
+    return breach in breaches_of(board, board.item_by_number[breach[1]])
+
+
+def shown(board, breaches):
+    return [breach for breach in breaches if breach not in board.waived]
+
+
 def breaches_of_pairs(board, item, others):
     found = []
     for other in others:

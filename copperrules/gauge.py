@@ -1,6 +1,6 @@
 """How near shapes are to one another. What has been measured once is kept by the shapes' serial numbers."""
 
-from copperrules.measure import box_distance, least_side_distance
+from copperrules.measure import box_distance, least_side_distance, whole_root
 
 
 class Gauge:
@@ -33,6 +33,11 @@ class Gauge:
     def within_reach(self, one, other, reach):
         square = self.distance(one, other)
         return square[0] <= reach * reach * square[1]
+
+    # A whole number is at most the root of a fraction just if it's at most the root of the whole part.
+    def room(self, one, other):
+        square = self.distance(one, other)
+        return max(0, whole_root(square[0] // square[1]) - one.radius - other.radius)
 
     def inside(self, shape, polygon, reach):
         square = self.margin(shape, polygon)

@@ -69,6 +69,26 @@ def lesser(one, other):
     return one if one[0] * other[1] <= other[0] * one[1] else other
 
 
+def in_least_terms(fraction):
+    divisor = fraction[1]
+    rest = fraction[0]
+    while rest > 0:
+        whole = divisor
+        divisor = rest
+        rest = whole % divisor
+    return (fraction[0] // divisor, fraction[1] // divisor)
+
+
+# The greatest whole number whose square is at most the number: from above, by Newton's steps.
+def whole_root(number):
+    root = number
+    better = (root + 1) // 2
+    while better < root:
+        root = better
+        better = (root + number // root) // 2
+    return root
+
+
 # Sides that meet otherwise than by crossing have an end of one on the other, which the four ends' distances tell.
 def side_distance(one, other):
     if strictly_between(one, other) and strictly_between(other, one):

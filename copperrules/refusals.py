@@ -7,10 +7,14 @@ NO_SUCH_ITEM = -1
 OUT_OF_BOUNDS = -2
 NO_SHAPE = -3
 FULL = -4
+NO_SUCH_BREACH = -6
+NOT_WAIVED = -7
+NO_SUCH_PAIR = -8
 
 MOST_LAYERS = 8
 MOST_ITEMS = 128
 MOST_OWNERS_TOLD = 64
+MOST_WAIVED = 64
 MOST = 1000000000
 
 
@@ -77,6 +81,11 @@ def refusal_of_number(board, number):
     return 0 if number in board.item_by_number else NO_SUCH_ITEM
 
 
+def refusal_of_two_numbers(board, number, number2):
+    refusal = refusal_of_number(board, number)
+    return refusal if refusal != 0 else refusal_of_number(board, number2)
+
+
 def refusal_of_move(board, number, dx, dy):
     if number not in board.item_by_number:
         return NO_SUCH_ITEM
@@ -94,3 +103,18 @@ def refusal_of_lift(board, number, layer):
     if number not in board.item_by_number or board.item_by_number[number].is_hole():
         return NO_SUCH_ITEM
     return 0 if is_layer(board, layer) else OUT_OF_BOUNDS
+
+
+def refusal_of_waive(board, breach, is_there):
+    if not is_there:
+        return NO_SUCH_BREACH
+    return FULL if breach not in board.waived and len(board.waived) >= MOST_WAIVED else 0
+
+
+def refusal_of_unwaive(board, breach):
+    return 0 if breach in board.waived else NOT_WAIVED
+
+
+def refusal_of_shift_all(board, dx, dy):
+    fits = all([in_range(shifted(shape.points, dx, dy)) for shape in board.all_shapes()])
+    return 0 if fits else OUT_OF_BOUNDS

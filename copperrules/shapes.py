@@ -11,8 +11,11 @@ MOST_CORNERS = 32
 class Shape:
     def __init__(self, serial, points, radius):
         self.serial = serial
-        self.points = points
         self.radius = radius
+        self.place(points)
+
+    def place(self, points):
+        self.points = points
         self.sides = sides_of(points)
         self.left = min([x for x, y in points])
         self.right = max([x for x, y in points])
@@ -35,6 +38,16 @@ def in_range(points):
 
 def shifted(points, dx, dy):
     return [(x + dx, y + dy) for x, y in points]
+
+
+def mirrored(points):
+    return [(-x, y) for x, y in points]
+
+
+def turned(points, quarters):
+    for quarter in range(quarters):
+        points = [(-y, x) for x, y in points]
+    return points
 
 
 def is_radius(radius):
@@ -100,6 +113,10 @@ def polygon_form(corners):
         corners = list(reversed(corners))
     start = corners.index(min(corners, key=lowness))
     return corners[start:] + corners[:start]
+
+
+def form_of(points):
+    return polygon_form(points) if len(points) >= FEWEST_CORNERS else bar_form(points)
 
 
 def doubled_area(corners):

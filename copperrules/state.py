@@ -1,7 +1,7 @@
-"""What a board has: its rules, its outline and its items."""
+"""What a board has: its rules, its outline, its items, and what is waived and marked."""
 
 from copperrules.gauge import Gauge
-from copperrules.shapes import Shape, shifted
+from copperrules.shapes import Shape, form_of, mirrored, shifted, turned
 
 CLASSES = 16
 LAYER_OF_HOLES = 0
@@ -39,13 +39,22 @@ class Board:
         self.gauge = Gauge()
         self.known_pairs = []
         self.stale = {}
+        self.waived = {}
+        self.marked = {}
+
+    def class_of(self, owner):
+        return self.class_by_owner.get(owner, 0)
 
     def rule_of(self, owner):
-        return self.rules[self.class_by_owner.get(owner, 0)]
+        return self.rules[self.class_of(owner)]
 
     # By rising numbers: a dict keeps the order in which its keys came, and numbers only rise.
     def all_items(self):
         return list(self.item_by_number.values())
+
+    def all_shapes(self):
+        shapes = [item.shape for item in self.all_items()]
+        return shapes if self.outline is None else shapes + [self.outline]
 
     def make_shape(self, points, radius):
         self.shapes_made += 1
@@ -104,3 +113,28 @@ class Board:
     def lift(self, item, layer):
         item.layer = layer
         self.make_stale(item.number)
+
+    # When all shapes go together their distances stay: serial numbers, measures and known pairs do too.
+    def shift_all(self, dx, dy):
+        for shape in self.all_shapes():
+            shape.place(shifted(shape.points, dx, dy))
+
+    def turn_all(self, quarters):
+        for shape in self.all_shapes():
+            shape.place(form_of(turned(shape.points, quarters)))
+
+    def flip_all(self):
+        for shape in self.all_shapes():
+            shape.place(form_of(mirrored(shape.points)))
+        for item in self.all_items():
+            if not item.is_hole():
+                item.layer = self.layers + 1 - item.layer
+
+    def waive(self, breach):
+        self.waived[breach] = True
+
+    def unwaive(self, breach):
+        self.waived.pop(breach)
+
+    def mark(self, breaches):
+        self.marked = dict([(breach, True) for breach in breaches])

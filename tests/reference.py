@@ -1,6 +1,7 @@
 """The document's words once more, slowly and with fractions; the program's answers are held against it."""
 
 from fractions import Fraction
+from functools import lru_cache
 
 FAR = 10 ** 9
 
@@ -78,6 +79,12 @@ def in_polygon(p, corners):
 
 
 def skeleton_distance(one, other):
+    return distance_of_points(tuple(one), tuple(other))
+
+
+# Kept for speed, by the points themselves: what is kept can't be out of date.
+@lru_cache(maxsize=200000)
+def distance_of_points(one, other):
     if len(one) > 2 and any(in_polygon(p, one) for p in other):
         return Fraction(0)
     if len(other) > 2 and any(in_polygon(p, other) for p in one):
@@ -121,11 +128,16 @@ def polygon_of(row):
     corners = list(zip(row[::2], row[1::2]))
     if not in_range(corners) or not is_simple(corners):
         return None
-    if sum(cross(a, b) for a, b in segments(corners)) < 0:
-        corners.reverse()
-    while corners[0] != min(corners, key=lambda p: (p[1], p[0])):
-        corners.append(corners.pop(0))
-    return corners
+    return one_form(corners)
+
+
+def one_form(points):
+    points = list(points)
+    if sum(cross(a, b) for a, b in segments(points)) < 0 and len(points) > 2:
+        points.reverse()
+    while points[0] != min(points, key=lambda p: (p[1], p[0])):
+        points.append(points.pop(0))
+    return points
 
 
 class Reference:
@@ -137,6 +149,8 @@ class Reference:
         self.edge = None
         self.stock = {}
         self.given = 0
+        self.waived = set()
+        self.kept = set()
 
     def answer(self, call):
         return getattr(self, call[0])(*call[1:])
@@ -198,8 +212,7 @@ class Reference:
         return self.put(self.draft(layer, owner, [(x, y)], r))
 
     def bar(self, layer, owner, x1, y1, x2, y2, r):
-        ends = sorted([(x1, y1), (x2, y2)], key=lambda p: (p[1], p[0]))
-        return self.put(self.draft(layer, owner, ends, r))
+        return self.put(self.draft(layer, owner, one_form([(x1, y1), (x2, y2)]), r))
 
     def polygon(self, layer, owner, row):
         return self.put(self.draft(layer, owner, polygon_of(row), 0))
@@ -242,19 +255,151 @@ class Reference:
             answer += [number, owner, layer, radius, len(points)] + [v for p in points for v in p]
         return answer
 
+    def shown(self):
+        return [t for t in self.breaches(self.stock) if t not in self.waived]
+
     def check(self):
-        return self.told(self.breaches(self.stock))
+        return self.told(self.shown())
 
     def check_one(self, number):
         if number not in self.stock:
             return [-1]
-        return self.told(self.concerning(self.stock, number))
+        return self.told([t for t in self.concerning(self.stock, number) if t not in self.waived])
 
-    def would_disc(self, layer, owner, x, y, r):
-        item = self.draft(layer, owner, [(x, y)], r)
+    def would(self, item):
         if isinstance(item, int):
             return [item]
         return self.told(self.concerning({**self.stock, self.given: item}, self.given))
+
+    def would_disc(self, layer, owner, x, y, r):
+        return self.would(self.draft(layer, owner, [(x, y)], r))
+
+    def would_bar(self, layer, owner, x1, y1, x2, y2, r):
+        return self.would(self.draft(layer, owner, one_form([(x1, y1), (x2, y2)]), r))
+
+    def would_hole(self, owner, x, y, r):
+        return self.would(self.draft(0, owner, [(x, y)], r, hole=True))
+
+    def waive(self, kind, a, b):
+        if (kind, a, b) not in self.breaches(self.stock):
+            return [-6]
+        if len(self.waived | {(kind, a, b)}) > 64:
+            return [-4]
+        self.waived.add((kind, a, b))
+        return [0]
+
+    def unwaive(self, kind, a, b):
+        if (kind, a, b) not in self.waived:
+            return [-7]
+        self.waived.remove((kind, a, b))
+        return [0]
+
+    def waivers(self):
+        return self.told(sorted(self.waived))
+
+    def measures(self, one, other):
+        return skeleton_distance(self.stock[one][3], self.stock[other][3]), self.stock[one][2] + self.stock[other][2]
+
+    def room_of(self, one, other):
+        """By halving: they are apart by what is below, not by what is above."""
+        distance, radii = self.measures(one, other)
+        below, above = 0, 4 * FAR
+        while above - below > 1:
+            middle = (below + above) // 2
+            if distance >= (radii + middle) ** 2:
+                below = middle
+            else:
+                above = middle
+        return below
+
+    def room(self, one, other):
+        if one not in self.stock or other not in self.stock:
+            return [-1]
+        return [self.room_of(one, other)]
+
+    def distance(self, one, other):
+        if one not in self.stock or other not in self.stock:
+            return [-1]
+        distance, radii = self.measures(one, other)
+        return [distance.numerator, distance.denominator, radii]
+
+    def pairs(self):
+        return [(a, b) for a in self.stock for b in self.stock if a < b]
+
+    def gap_of(self, a, b):
+        one, other = self.stock[a], self.stock[b]
+        if one[1] == 0 and other[1] == 0:
+            return self.gap
+        if one[0] != other[0] and (0 in (one[1], other[1]) or one[1] == other[1]):
+            return max(self.rule_of(one)[0], self.rule_of(other)[0])
+        return 0
+
+    def worst(self):
+        found = []
+        for a, b in self.pairs():
+            gap = self.gap_of(a, b)
+            if gap:
+                distance, radii = self.measures(a, b)
+                found.append((distance / (radii + gap) ** 2, a, b))
+        if not found:
+            return [-8]
+        share, a, b = min(found)
+        return [a, b, share.numerator, share.denominator]
+
+    def narrowest(self):
+        found = []
+        for a, b in self.pairs():
+            one, other = self.stock[a], self.stock[b]
+            if one[1] == other[1] > 0 and one[0] != other[0]:
+                found.append((self.room_of(a, b), a, b))
+        if not found:
+            return [-8]
+        room, a, b = min(found)
+        return [a, b, room]
+
+    def report(self):
+        return [len([t for t in self.shown() if t[0] == kind]) for kind in range(1, 8)]
+
+    def by_classes(self):
+        found = [sorted(self.nets.get(self.stock[number][0], 0) for number in t[1:]) for t in self.shown() if t[0] < 4]
+        table = [(c, d, found.count([c, d])) for c in range(16) for d in range(c, 16)]
+        return self.told([line for line in table if line[2]])
+
+    def mark(self):
+        self.kept = set(self.shown())
+        return [len(self.kept)]
+
+    def news(self):
+        return self.told(sorted(set(self.shown()) - self.kept))
+
+    def gone(self):
+        return self.told(sorted(self.kept - set(self.shown())))
+
+    def change_points(self, change):
+        """Nothing is changed and False is answered if a point wouldn't be in range."""
+        stock = {number: [change(p) for p in item[3]] for number, item in self.stock.items()}
+        edge = [change(p) for p in self.edge or []]
+        if not all(in_range(points) for points in [*stock.values(), edge]):
+            return False
+        for number, points in stock.items():
+            self.stock[number][3] = one_form(points)
+        self.edge = one_form(edge) if edge else None
+        return True
+
+    def shift_all(self, dx, dy):
+        return [0] if self.change_points(lambda p: (p[0] + dx, p[1] + dy)) else [-2]
+
+    def turn_all(self, k):
+        way = {0: (1, 0), 1: (0, 1), 2: (-1, 0), 3: (0, -1)}[k - k // 4 * 4]
+        self.change_points(lambda p: (p[0] * way[0] - p[1] * way[1], p[0] * way[1] + p[1] * way[0]))
+        return [0]
+
+    def flip_all(self):
+        self.change_points(lambda p: (-p[0], p[1]))
+        for item in self.stock.values():
+            if item[1]:
+                item[1] = self.count + 1 - item[1]
+        return [0]
 
     def told(self, breaches):
         return [len(breaches)] + [v for breach in breaches for v in breach]

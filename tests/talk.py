@@ -1,10 +1,19 @@
 """Calls by their names, for tests: handed to the program as one list, answered as one list a call."""
 
+import unittest
+
 from copperrules.board import answers
 
 NAMES = ["layers", "rule", "net", "hole_gap", "outline", "disc", "bar", "polygon", "hole", "remove", "move", "give",
-         "lift", "items", "check", "check_one", "would_disc"]
+         "lift", "items", "check", "check_one", "would_disc", "would_bar", "would_hole", "waive", "unwaive", "waivers",
+         "room", "distance", "worst", "narrowest", "report", "by_classes", "mark", "news", "gone", "shift_all",
+         "turn_all", "flip_all"]
 BIG = 1000000000
+INT_LOW = -2147483648
+INT_HIGH = 2147483647
+# What these answer differs if almost anything of the board differs.
+PROBE = [("items",), ("check",), ("waivers",), ("news",), ("gone",), ("worst",), ("narrowest",), ("by_classes",),
+         ("disc", 1, 77, 0, 0, 1), ("hole", 77, 0, 0, 1), ("check",), ("turn_all", 1), ("check",)]
 
 
 def flat(calls):
@@ -66,3 +75,12 @@ def listed(*calls):
         place += 5 + 2 * count
     assert len(found) == answer[0], answer
     return found
+
+
+class Same(unittest.TestCase):
+    """For tests of refusals: nothing has changed behind one."""
+
+    def assertRefused(self, board, call, number):
+        given = talk(*board, call, *PROBE)
+        self.assertEqual(given[len(board)], [number], call)
+        self.assertEqual(given[len(board) + 1:], talk(*board, *PROBE)[len(board):], call)

@@ -2,10 +2,8 @@
 
 import unittest
 
-from tests.talk import BIG, checked, kinds, last, listed, talk
+from tests.talk import BIG, INT_HIGH, INT_LOW, Same, kinds, last, listed, talk
 
-INT_LOW = -2147483648
-INT_HIGH = 2147483647
 BOX = [0, 0, 9, 0, 9, 9, 0, 9]
 CROSSED = [0, 0, 9, 9, 9, 0, 0, 9]
 NEW_ONES = {
@@ -14,6 +12,8 @@ NEW_ONES = {
     "polygon": ("polygon", 1, 0, BOX),
     "hole": ("hole", 0, 3, 4, 5),
     "would_disc": ("would_disc", 1, 0, 3, 4, 5),
+    "would_bar": ("would_bar", 1, 0, 3, 4, 5, 6, 7),
+    "would_hole": ("would_hole", 0, 3, 4, 5),
 }
 PLACES = {
     "disc": {"layer": [1], "owner": [2], "point": [3, 4], "radius": [5]},
@@ -21,6 +21,8 @@ PLACES = {
     "polygon": {"layer": [1], "owner": [2], "point": [], "radius": []},
     "hole": {"layer": [], "owner": [1], "point": [2, 3], "radius": [4]},
     "would_disc": {"layer": [1], "owner": [2], "point": [3, 4], "radius": [5]},
+    "would_bar": {"layer": [1], "owner": [2], "point": [3, 4, 5, 6], "radius": [7]},
+    "would_hole": {"layer": [], "owner": [1], "point": [2, 3], "radius": [4]},
 }
 BEYOND = {
     "layer": [0, -1, 3, INT_LOW, INT_HIGH],
@@ -30,7 +32,6 @@ BEYOND = {
 }
 WITHIN = {"layer": [1, 2], "owner": [0, 1, BIG - 1, BIG], "point": [-BIG, 0, BIG], "radius": [1, 2, BIG - 1, BIG]}
 NUMBERS = {"layer": -2, "owner": -2, "point": -3, "radius": -3}
-PROBE = [("items",), ("check",), ("disc", 1, 77, 0, 0, 1), ("hole", 77, 0, 0, 1), ("check",)]
 
 
 def changed(call, place, value):
@@ -41,13 +42,6 @@ def discs(count):
     return [("disc", 1, 0, k, 0, 1) for k in range(count)]
 
 
-class Same(unittest.TestCase):
-    def assertRefused(self, board, call, number):
-        given = talk(*board, call, *PROBE)
-        self.assertEqual(given[len(board)], [number], call)
-        self.assertEqual(given[len(board) + 1:], talk(*board, *PROBE)[len(board):], call)
-
-
 class Bounds(Same):
     def test_within(self):
         for name, call in NEW_ONES.items():
@@ -55,7 +49,7 @@ class Bounds(Same):
                 for place in places:
                     for value in WITHIN[what]:
                         told = changed(call, place, value)
-                        if name == "bar" and told[3:5] == told[5:7]:
+                        if name in ("bar", "would_bar") and told[3:5] == told[5:7]:
                             continue
                         first = last(told)
                         self.assertGreaterEqual(first[0], 0, told)
@@ -69,16 +63,17 @@ class Bounds(Same):
                         self.assertRefused(board, changed(call, place, value), NUMBERS[what])
 
     def test_layers_told(self):
-        for name in ("disc", "bar", "polygon", "would_disc"):
+        for name in ("disc", "bar", "polygon", "would_disc", "would_bar"):
             call = NEW_ONES[name]
             self.assertGreaterEqual(last(("layers", 8), changed(call, 1, 8))[0], 0)
             self.assertEqual(last(("layers", 8), changed(call, 1, 9)), [-2])
             self.assertEqual(last(("layers", 1), changed(call, 1, 2)), [-2])
 
     def test_a_bar_with_equal_ends(self):
-        self.assertRefused([], ("bar", 1, 0, 3, 4, 3, 4, 5), -3)
-        self.assertEqual(last(("bar", 1, 0, 3, 4, 3, 5, 5)), [0])
-        self.assertEqual(last(("bar", 1, 0, 3, 4, 4, 4, 5)), [0])
+        for name in ("bar", "would_bar"):
+            self.assertRefused([], (name, 1, 0, 3, 4, 3, 4, 5), -3)
+            self.assertEqual(last((name, 1, 0, 3, 4, 3, 5, 5)), [0])
+            self.assertEqual(last((name, 1, 0, 3, 4, 4, 4, 5)), [0])
 
     def test_no_polygon(self):
         for row in ([], [0, 0], CROSSED, BOX + [0], [0, 0, BIG + 1, 0, 0, 9]):
@@ -87,7 +82,9 @@ class Bounds(Same):
 
 class OrderOfRefusals(Same):
     wrong_shapes = [("disc", 1, 0, 3, 4, 0), ("bar", 1, 0, 3, 4, 3, 4, 5), ("polygon", 1, 0, CROSSED),
-                    ("polygon", 1, 0, []), ("hole", 0, 3, 4, 0), ("would_disc", 1, 0, 3, BIG + 1, 4)]
+                    ("polygon", 1, 0, []), ("hole", 0, 3, 4, 0), ("would_disc", 1, 0, 3, BIG + 1, 4),
+                    ("would_bar", 1, 0, 3, 4, 3, 4, 5), ("would_bar", 1, 0, 3, 4, 5, 6, BIG + 1),
+                    ("would_hole", 0, 3, 4, 0), ("would_hole", 0, -BIG - 1, 4, 5)]
 
     def test_layer_or_owner_before_shape(self):
         for call in self.wrong_shapes:
@@ -130,7 +127,8 @@ class Numbers(unittest.TestCase):
                               ("polygon", 1, 0, []), ("hole", -1, 0, 0, 1), ("disc", 1, 0, 0, 0, 1))[-1], [0])
 
     def test_would_be_ones_get_none(self):
-        self.assertEqual(last(("would_disc", 1, 0, 0, 0, 1), ("disc", 1, 0, 0, 0, 1)), [0])
+        self.assertEqual(last(("would_disc", 1, 0, 0, 0, 1), ("would_bar", 1, 0, 0, 0, 1, 0, 1),
+                              ("would_hole", 0, 0, 0, 1), ("disc", 1, 0, 0, 0, 1)), [0])
 
 
 class HundredAndTwentyEight(unittest.TestCase):

@@ -2,10 +2,7 @@
 
 import unittest
 
-from tests.talk import BIG, last, listed
-
-INT_LOW = -2147483648
-INT_HIGH = 2147483647
+from tests.talk import BIG, INT_HIGH, INT_LOW, last, listed
 
 
 def comb(count, step=10):

@@ -10,10 +10,34 @@ from tests.talk import BIG, talk
 class Maker:
     """Makes calls whose points lie close together, so that distances fall on the very edges."""
 
-    def __init__(self, seed, scale, spread):
+    putting = ["disc", "bar", "polygon", "hole"]
+    setting = ["layers", "rule", "net", "hole_gap", "outline"]
+    changing = ["remove", "move", "move", "give", "lift", "shift_all", "turn_all", "flip_all"]
+    asking = ["check", "check_one", "would_disc", "would_bar", "would_hole", "room", "room", "distance", "distance",
+              "worst", "narrowest", "report", "by_classes", "news", "gone"]
+    letting = ["waive", "waive", "waive", "unwaive", "waivers", "mark"]
+    names = putting * 5 + setting * 2 + changing + letting + asking + ["items"]
+
+    def __init__(self, seed, scale, spread, most=14):
         self.dice = random.Random(seed)
         self.scale = scale
         self.spread = spread
+        self.most = most
+        self.seen = []
+        self.let_pass = []
+
+    def hear(self, call, answer):
+        """Breaches that were answered are those to be waived, and the waived ones those to be unwaived."""
+        if call[0] in ("check", "check_one", "news", "waivers") and answer[0] > 0:
+            self.seen = [tuple(answer[k:k + 3]) for k in range(1, len(answer), 3)]
+        if call[0] == "waive" and answer == [0]:
+            self.let_pass.append(call[1:])
+
+    def call(self):
+        return self.make(self.dice.choice(self.names))
+
+    def make(self, name):
+        return (name, *getattr(self, name, tuple)())
 
     def place(self):
         near = self.dice.randint(-self.spread, self.spread) * self.scale
@@ -41,94 +65,130 @@ class Maker:
         return self.dice.choice((1, 1, 1, 2, 2, 3))
 
     def item(self):
-        return self.dice.randint(0, 14)
-
-    def call(self):
-        name = self.dice.choice(self.names)
-        return getattr(self, name)()
-
-    names = (["disc", "bar", "polygon", "hole"] * 3 + ["layers", "rule", "net", "hole_gap", "outline"]
-             + ["remove", "move", "move", "give", "lift"] + ["check", "check_one", "would_disc"] * 2 + ["items"])
+        return self.dice.randint(0, self.most)
 
     def disc(self):
-        return ("disc", self.layer(), self.owner(), self.place(), self.place(), self.length(3))
-
-    def would_disc(self):
-        return ("would_disc",) + self.disc()[1:]
+        return (self.layer(), self.owner(), self.place(), self.place(), self.length(3))
 
     def bar(self):
         ends = [self.place() for k in range(4)]
-        return ("bar", self.layer(), self.owner(), *ends, self.length(3))
+        return (self.layer(), self.owner(), *ends, self.length(3))
 
     def polygon(self):
-        return ("polygon", self.layer(), self.owner(), self.corners())
+        return (self.layer(), self.owner(), self.corners())
 
     def hole(self):
-        return ("hole", self.owner(), self.place(), self.place(), self.length(2))
+        return (self.owner(), self.place(), self.place(), self.length(2))
+
+    would_disc, would_bar, would_hole = disc, bar, hole
 
     def layers(self):
-        return ("layers", self.dice.choice((0, 1, 2, 3, 4, 8, 9)))
+        return (self.dice.choice((0, 1, 2, 3, 4, 8, 9)),)
 
     def rule(self):
-        return ("rule", self.dice.randint(0, 2), self.length(3), self.length(3), self.length(2) - self.scale,
-                self.length(3))
+        return (self.dice.randint(0, 2), self.length(3), self.length(3), self.length(2) - self.scale, self.length(3))
 
     def net(self):
-        return ("net", self.owner(), self.dice.randint(0, 2))
+        return (self.owner(), self.dice.randint(0, 2))
 
     def hole_gap(self):
-        return ("hole_gap", self.length(4))
+        return (self.length(4),)
 
     def outline(self):
         wide = self.spread * self.scale
         large = [-wide, -wide, wide, -wide, wide, wide, 0, self.place(), -wide, wide]
-        return ("outline", self.dice.choice((self.corners(), large, large)))
+        return (self.dice.choice((self.corners(), large, large)),)
 
     def remove(self):
-        return ("remove", self.item())
+        return (self.item(),)
+
+    check_one = remove
 
     def move(self):
-        return ("move", self.item(), self.place(), self.place())
+        return (self.item(), self.place(), self.place())
 
     def give(self):
-        return ("give", self.item(), self.owner())
+        return (self.item(), self.owner())
 
     def lift(self):
-        return ("lift", self.item(), self.layer())
+        return (self.item(), self.layer())
 
-    def check_one(self):
-        return ("check_one", self.item())
+    def room(self):
+        return (self.item(), self.item())
 
-    def check(self):
-        return ("check",)
+    distance = room
 
-    def items(self):
-        return ("items",)
+    def breach(self, known):
+        if known and self.dice.randint(0, 5):
+            return self.dice.choice(known)
+        return (self.dice.randint(-1, 8), self.item(), self.item())
+
+    def waive(self):
+        return self.breach(self.seen)
+
+    def unwaive(self):
+        return self.breach(self.let_pass)
+
+    def shift_all(self):
+        far = self.dice.choice((1, 1, self.scale, self.spread * self.scale))
+        return (self.dice.randint(-far, far), self.dice.randint(-far, far))
+
+    def turn_all(self):
+        return (self.dice.randint(-9, 9),)
+
+
+ENDING = [("items",), ("check",), ("waivers",), ("news",), ("gone",), ("worst",), ("narrowest",), ("report",),
+          ("by_classes",)]
 
 
 class HeldAgainstReference(unittest.TestCase):
-    def hold(self, seed, scale, spread, count):
-        maker = Maker(seed, scale, spread)
-        calls = [maker.call() for k in range(count)] + [("items",), ("check",)]
+    def hold(self, maker, told, count):
         reference = Reference()
-        for call, answer in zip(calls, talk(*calls)):
-            self.assertEqual(reference.answer(call), answer, (seed, call))
+        calls, wanted = [], []
+        for k in range(len(told) + count + len(ENDING)):
+            call = (told + [None] * count + ENDING)[k] or maker.call()
+            calls.append(call)
+            wanted.append(reference.answer(call))
+            maker.hear(call, wanted[-1])
+        for call, answer, given in zip(calls, wanted, talk(*calls)):
+            self.assertEqual(answer, given, call)
 
     def test_small_boards(self):
         for seed in range(160):
-            self.hold(seed, 1, 5, 30)
+            self.hold(Maker(seed, 1, 5), [], 60)
 
     def test_wide_boards(self):
         for seed in range(60):
-            self.hold(1000 + seed, 1, 14, 40)
+            self.hold(Maker(1000 + seed, 1, 14), [], 60)
 
     def test_boards_as_great_as_allowed(self):
         for seed in range(60):
-            self.hold(2000 + seed, BIG // 8, 8, 30)
+            self.hold(Maker(2000 + seed, BIG // 8, 8), [], 60)
 
     def test_loose_boards(self):
         for seed in range(60):
-            self.hold(3000 + seed, 10, 8, 40)
+            self.hold(Maker(3000 + seed, 10, 8), [], 60)
+
+    def test_four_hundred_calls(self):
+        for seed in range(2):
+            self.hold(Maker(4000 + seed, 5, 12, 60), [], 400 - len(ENDING))
+
+    def test_many_waivers(self):
+        for seed in range(10):
+            maker = Maker(6000 + seed, 1, 4, 15)
+            maker.names = ["waive"] * 30 + ["unwaive", "waivers", "check", "remove", "move", "disc", "hole", "mark"]
+            heap = [("disc", 1, k, k % 3, 0, 5) for k in range(10)] + [("hole", k, 0, 0, 5) for k in range(5)]
+            self.hold(maker, heap + [("check",)], 180)
+
+    def full(self, maker):
+        names = ["disc", "disc", "bar", "hole"] * 32
+        return [("layers", 3)] + [maker.make(name) for name in names]
+
+    def test_full_boards(self):
+        for seed, scale, spread in ((1, 1, 20), (2, 10, 60), (3, BIG // 100, 90)):
+            maker = Maker(5000 + seed, scale, spread, 130)
+            boxes = [("remove", k) for k in range(8)] + [("polygon", 1, k % 3, maker.box()) for k in range(8)]
+            self.hold(maker, self.full(maker) + boxes, 60)
 
 
 POLYGONS = [

@@ -2,10 +2,8 @@
 
 import unittest
 
-from tests.talk import BIG, checked, kinds, last, talk
+from tests.talk import BIG, INT_HIGH, INT_LOW, checked, kinds, last, talk
 
-INT_LOW = -2147483648
-INT_HIGH = 2147483647
 SQUARE = [0, 0, 100, 0, 100, 100, 0, 100]
 
 
